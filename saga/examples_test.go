@@ -1,0 +1,41 @@
+package saga_test
+
+import (
+	"testing"
+
+	"saga/api"
+)
+
+func TestExample1(t *testing.T) {
+	p := lines(line{start(7), ok}, line{pick(7), do(1, 0)}, line{good(7, 1), ok}, line{pick(7), do(2, 1)}, line{good(7, 2), ok})
+	p.expect(t, two(), 0, api.Instance{Id: 7, Mode: api.Done, Settled: 2, Keys: 2, Ledger: []api.Entry{entry(1, 0, 1), entry(1, 1, 2)}})
+}
+
+func TestExample2(t *testing.T) {
+	p := lines(line{start(7), ok}, line{pick(7), do(1, 0)}, line{good(7, 1), ok}, line{pick(7), do(2, 1)}, line{bad(7, 2), ok})
+	p.expect(t, two(), 0, api.Instance{Id: 7, Mode: api.Back, Settled: 1, Keys: 2, Ledger: []api.Entry{entry(1, 0, 1)}})
+	p.add(line{pick(7), undo(3, 0)})
+	p.expect(t, two(), 0, api.Instance{Id: 7, Mode: api.Back, Settled: 1, Keys: 3, Key: 3, Due: 5, Tries: 1, Ledger: []api.Entry{entry(1, 0, 1)}})
+	p.add(line{good(7, 3), ok})
+	p.expect(t, two(), 0, api.Instance{Id: 7, Mode: api.Undone, Keys: 3, Ledger: []api.Entry{entry(1, 0, 1), entry(3, 0, 3)}})
+}
+
+func TestExample3(t *testing.T) {
+	p := lines(line{start(7), ok}, line{pick(7), do(1, 0)}, line{pick(7), no(api.ErrBusy)}, line{tick(5), ok}, line{pick(7), do(1, 0)}, line{good(7, 2), no(api.ErrKey)})
+	p.expect(t, two(), 5, api.Instance{Id: 7, Mode: api.Forward, Keys: 1, Key: 1, Due: 10, Tries: 1})
+}
+
+func TestExample4(t *testing.T) {
+	d := steps(2, api.Step{Undo: true, Timeout: 5, Retries: 2})
+	p := lines(line{start(7), ok}, line{pick(7), do(1, 0)}, line{bad(7, 1), ok})
+	p.expect(t, d, 0, api.Instance{Id: 7, Mode: api.Forward, Keys: 1, Tries: 1, Wake: 1})
+	p.add(line{pick(7), no(api.ErrWait)}, line{tick(1), ok}, line{pick(7), do(2, 0)}, line{bad(7, 2), ok})
+	p.expect(t, d, 1, api.Instance{Id: 7, Mode: api.Forward, Keys: 2, Tries: 2, Wake: 3})
+}
+
+func TestExample5AheadOfItsFirstAsk(t *testing.T) {
+	d := two()
+	d.Steps[0].Pivot = true
+	p := lines(line{start(7), ok}, line{pick(7), do(1, 0)}, line{good(7, 1), ok}, line{pick(7), do(2, 1)}, line{bad(7, 2), ok}, line{pick(7), no(api.ErrStuck)})
+	p.expect(t, d, 0, api.Instance{Id: 7, Mode: api.Forward, Stuck: true, Settled: 1, Keys: 2, Tries: 1, Ledger: []api.Entry{entry(1, 0, 1)}})
+}

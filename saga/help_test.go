@@ -1,0 +1,99 @@
+package saga_test
+
+import (
+	"fmt"
+	"slices"
+	"testing"
+
+	"saga/api"
+	"saga/saga"
+)
+
+// two is the definition of the document's examples.
+func two() api.Def { return steps(2, api.Step{Undo: true, Timeout: 5}) }
+
+// steps is a definition of n steps that are alike.
+func steps(n int, s api.Step) api.Def {
+	return api.Def{Steps: slices.Repeat([]api.Step{s}, n), Expiry: 10}
+}
+
+func start(id int) api.Cmd { return api.Cmd{Kind: api.Start, Inst: id} }
+
+func pick(id int) api.Cmd { return api.Cmd{Kind: api.Pick, Inst: id} }
+
+func good(id, key int) api.Cmd { return api.Cmd{Kind: api.Reply, Inst: id, A: key, B: 1} }
+
+func bad(id, key int) api.Cmd { return api.Cmd{Kind: api.Reply, Inst: id, A: key} }
+
+func tick(n int) api.Cmd { return api.Cmd{Kind: api.Tick, A: n} }
+
+var ok = api.Answer{}
+
+func no(e api.Errno) api.Answer { return api.Answer{Code: e} }
+
+func do(key, step int) api.Answer { return api.Answer{Number: key, Step: step, What: 1} }
+
+func undo(key, step int) api.Answer { return api.Answer{Number: key, Step: step, What: 2} }
+
+func entry(kind, step, ref int) api.Entry { return api.Entry{Kind: kind, Step: step, Ref: ref} }
+
+// line is a command with the answer that it must get.
+type line struct {
+	cmd    api.Cmd
+	answer api.Answer
+}
+
+// play is a script that grows line by line, with the answers it must get.
+type play struct {
+	cmds    []api.Cmd
+	answers []api.Answer
+}
+
+func (p *play) add(lines ...line) {
+	for _, l := range lines {
+		p.cmds = append(p.cmds, l.cmd)
+		p.answers = append(p.answers, l.answer)
+	}
+}
+
+func lines(l ...line) play {
+	var p play
+	p.add(l...)
+	return p
+}
+
+// wait ticks the clock on by n, however much that is.
+func (p *play) wait(n int) {
+	for n > 0 {
+		m := min(n, api.MaxTick)
+		p.add(line{tick(m), ok})
+		n -= m
+	}
+}
+
+// expect runs the play, and compares the answers and the world behind it.
+func (p *play) expect(t *testing.T, d api.Def, clock int, instances ...api.Instance) {
+	t.Helper()
+	p.expectAnswers(t, d)
+	w, e := saga.State(d, p.cmds)
+	want := api.World{Clock: clock, Instances: instances}
+	if e != api.OK || text(w) != text(want) {
+		t.Errorf("P5: State:\n%s, %d, want\n%s, 0", text(w), e, text(want))
+	}
+}
+
+func (p *play) expectAnswers(t *testing.T, d api.Def) {
+	t.Helper()
+	answers, e := saga.Run(d, p.cmds)
+	if e != api.OK || len(answers) != len(p.answers) {
+		t.Fatalf("P4: Run: %d answers, %d, want %d, 0", len(answers), e, len(p.answers))
+	}
+	for k := range answers {
+		if answers[k] != p.answers[k] {
+			t.Errorf("P4: Run: command %d, %+v: %+v, want %+v", k, p.cmds[k], answers[k], p.answers[k])
+		}
+	}
+}
+
+// text is the same for an empty list and for none.
+func text(x any) string { return fmt.Sprintf("%+v", x) }

@@ -1,0 +1,130 @@
+package saga_test
+
+import (
+	"math/rand"
+	"slices"
+	"testing"
+
+	"saga/api"
+	"saga/saga"
+)
+
+// roomy copies a list into one with spare room that is filled with x.
+func roomy[T any](l []T, x T) []T {
+	r := append(slices.Clone(l), slices.Repeat([]T{x}, 8)...)
+	return r[:len(l)]
+}
+
+// whole is a list with its spare room.
+func whole[T any](l []T) []T { return l[:cap(l)] }
+
+func fill[T any](l []T, x T) {
+	l = whole(l)
+	for k := range l {
+		l[k] = x
+	}
+}
+
+// Equal arguments are answered alike, whatever was called between.
+func TestSameAgain(t *testing.T) {
+	r := rand.New(rand.NewSource(4))
+	for range 100 {
+		d, other := likelyDef(r), likelyDef(r)
+		s, others := likelyScript(r, 60), likelyScript(r, 60)
+		a, e := saga.Run(d, s)
+		w, f := saga.State(d, s)
+		first := text(a) + text(w) + text(e) + text(f)
+		saga.Run(other, others)
+		saga.State(other, others)
+		saga.Check(api.Def{})
+		a, e = saga.Run(d, slices.Clone(s))
+		w, f = saga.State(d, slices.Clone(s))
+		if again := text(a) + text(w) + text(e) + text(f); again != first {
+			t.Fatalf("P2:\n%s, and then\n%s", first, again)
+		}
+	}
+}
+
+// The answers to the beginning of a script are the beginning of its answers.
+func TestAnswersOfBeginnings(t *testing.T) {
+	r := rand.New(rand.NewSource(5))
+	d := likelyDef(r)
+	s := likelyScript(r, 100)
+	all, _ := saga.Run(d, s)
+	for k := range s {
+		a, _ := saga.Run(d, s[:k])
+		if !slices.Equal(a, all[:k]) {
+			t.Fatalf("P2, P4: %v, want %v", a, all[:k])
+		}
+	}
+}
+
+func TestNothingHandedInIsWritten(t *testing.T) {
+	r := rand.New(rand.NewSource(6))
+	for range 100 {
+		d := likelyDef(r)
+		d.Steps = roomy(d.Steps, api.Step{Retries: 77})
+		s := roomy(likelyScript(r, 60), api.Cmd{Kind: 77})
+		before := text(whole(d.Steps)) + text(whole(s))
+		saga.Check(d)
+		saga.Run(d, s)
+		saga.State(d, s)
+		bad := d
+		bad.Expiry = 0
+		saga.Check(bad)
+		saga.Run(bad, s)
+		saga.State(bad, s)
+		if after := text(whole(d.Steps)) + text(whole(s)); after != before {
+			t.Fatalf("P2: handed in\n%s, and then it was\n%s", before, after)
+		}
+	}
+}
+
+// busy is a script that makes four ledgers.
+func busy() []api.Cmd {
+	s := []api.Cmd{start(0), start(1), start(2), start(3)}
+	for key := 1; key <= 5; key++ {
+		for id := range 4 {
+			s = append(s, pick(id), good(id, key))
+		}
+	}
+	return s
+}
+
+func TestListsOfTheirOwn(t *testing.T) {
+	d := steps(6, api.Step{Undo: true, Timeout: 5})
+	d.Steps = roomy(d.Steps, api.Step{Retries: 77})
+	s := roomy(busy(), api.Cmd{Kind: 77})
+	handedIn := text(whole(d.Steps)) + text(whole(s))
+	a, _ := saga.Run(d, s)
+	b, _ := saga.Run(d, s)
+	v, _ := saga.State(d, s)
+	w, _ := saga.State(d, s)
+	answers, world := text(a), text(w)
+	fill(b, api.Answer{Number: 77})
+	for k := range v.Instances {
+		fill(v.Instances[k].Ledger, api.Entry{Kind: 77})
+	}
+	fill(v.Instances, api.Instance{Id: 77})
+	fill(v.Requests, api.Request{Number: 77})
+	a2, _ := saga.Run(d, s)
+	w2, _ := saga.State(d, s)
+	if text(a) != answers || text(a2) != answers || text(w) != world || text(w2) != world || text(whole(d.Steps))+text(whole(s)) != handedIn {
+		t.Errorf("P2: writing into what came out shows elsewhere")
+	}
+}
+
+// The ledgers of one world do not share room, nor do they with its instances.
+func TestLedgersOfTheirOwn(t *testing.T) {
+	d := steps(6, api.Step{Undo: true, Timeout: 5})
+	for k := range 4 {
+		w, _ := saga.State(d, busy())
+		want, _ := saga.State(d, busy())
+		fill(w.Instances[k].Ledger, api.Entry{Kind: 77})
+		want.Instances[k].Ledger = nil
+		w.Instances[k].Ledger = nil
+		if text(w) != text(want) {
+			t.Errorf("P2: writing into ledger %d makes\n%+v, want\n%+v", k, w, want)
+		}
+	}
+}
