@@ -3,6 +3,7 @@ package saga_test
 import (
 	"math"
 	"math/rand"
+	"slices"
 	"strings"
 	"testing"
 
@@ -14,8 +15,10 @@ var edges = []int{math.MinInt, math.MinInt + 1, math.MinInt32, -256, -2, -1, 0, 
 
 func anyNumber(r *rand.Rand) int { return edges[r.Intn(len(edges))] }
 
+func anyLength(r *rand.Rand) int { return []int{0, 1, 9, 10, 11, 128, 300}[r.Intn(7)] }
+
 func anyCmd(r *rand.Rand) api.Cmd {
-	reason := strings.Repeat("\x00\xff", r.Intn(300))
+	reason := strings.Repeat("\x00\xff", r.Intn(1+anyLength(r)))
 	return api.Cmd{Kind: anyNumber(r), Inst: anyNumber(r), A: anyNumber(r), B: anyNumber(r), Who: anyNumber(r), Reason: reason, Dry: r.Intn(2) == 0}
 }
 
@@ -40,9 +43,9 @@ func likelyDef(r *rand.Rand) api.Def {
 	return d
 }
 
-// likelyCmd is one of START, PICK, REPLY and TICK that has a fair chance.
+// likelyCmd is one from START to WITHDRAW that has a fair chance.
 func likelyCmd(r *rand.Rand) api.Cmd {
-	switch r.Intn(10) {
+	switch r.Intn(16) {
 	case 0:
 		return start(r.Intn(6))
 	case 1, 2, 3, 4:
@@ -51,6 +54,12 @@ func likelyCmd(r *rand.Rand) api.Cmd {
 		return api.Cmd{Kind: api.Reply, Inst: r.Intn(4), A: 1 + r.Intn(8), B: r.Intn(2)}
 	case 8:
 		return tick(1 + r.Intn(6))
+	case 9, 10:
+		return ask(r.Intn(4), 1+r.Intn(5), r.Intn(5), r.Intn(10))
+	case 11, 12, 13:
+		return approve(1+r.Intn(12), r.Intn(10))
+	case 14:
+		return withdraw(1+r.Intn(12), r.Intn(10))
 	}
 	return anyCmd(r)
 }
@@ -141,7 +150,61 @@ func expectWhole(t *testing.T, d api.Def, w api.World) {
 		if settled := ledgerSettles(t, d, i.Ledger); settled != i.Settled {
 			t.Fatalf("P5: Settled %d, by the ledger %d", i.Settled, settled)
 		}
+		if !refersRightly(w, i) {
+			t.Fatalf("P5: %+v", w)
+		}
 	}
+	for k, r := range w.Requests {
+		if r.Number != k+1 || !isRequest(d, w, r) {
+			t.Fatalf("P5: %+v", r)
+		}
+	}
+}
+
+// refersRightly tells whether what a ledger refers to is there: keys that
+// were given out, and requests that were carried out, each once.
+func refersRightly(w api.World, i api.Instance) bool {
+	keys, requests := map[int]bool{}, map[int]bool{}
+	for _, e := range i.Ledger {
+		if e.Kind == api.EntryDo || e.Kind == api.EntryUndo {
+			if e.Ref < 1 || e.Ref > i.Keys || keys[e.Ref] {
+				return false
+			}
+			keys[e.Ref] = true
+			continue
+		}
+		if e.Ref < 1 || e.Ref > len(w.Requests) || requests[e.Ref] {
+			return false
+		}
+		requests[e.Ref] = true
+		r := w.Requests[e.Ref-1]
+		what := map[int]int{api.EntryAssume: api.Assume, api.EntryWaive: api.Waive}[e.Kind]
+		if r.Inst != i.Id || r.What != what || !r.Closed {
+			return false
+		}
+	}
+	return true
+}
+
+func isRequest(d api.Def, w api.World, r api.Request) bool {
+	for k, who := range r.By {
+		if who < 0 || who > api.MaxWho || who == r.Who || slices.Contains(r.By[:k], who) {
+			return false
+		}
+	}
+	switch {
+	case !slices.ContainsFunc(w.Instances, func(i api.Instance) bool { return i.Id == r.Inst }):
+	case r.What < api.Retry || r.What > api.Rewind:
+	case r.What != api.Rewind && r.Target != 0:
+	case r.Target < 0 || r.Target >= len(d.Steps):
+	case r.Who < 0 || r.Who > api.MaxWho:
+	case r.Reason == "" || len(r.Reason) > api.MaxReason:
+	case r.Until < d.Expiry || r.Until > w.Clock+d.Expiry:
+	case len(r.By) > d.Quorum || len(r.By) == d.Quorum && !r.Closed:
+	default:
+		return true
+	}
+	return false
 }
 
 func holds(d api.Def, i api.Instance) bool {

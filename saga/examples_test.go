@@ -33,9 +33,27 @@ func TestExample4(t *testing.T) {
 	p.expect(t, d, 1, api.Instance{Id: 7, Mode: api.Forward, Keys: 2, Tries: 2, Wake: 3})
 }
 
-func TestExample5AheadOfItsFirstAsk(t *testing.T) {
+func TestExample5(t *testing.T) {
 	d := two()
 	d.Steps[0].Pivot = true
 	p := lines(line{start(7), ok}, line{pick(7), do(1, 0)}, line{good(7, 1), ok}, line{pick(7), do(2, 1)}, line{bad(7, 2), ok}, line{pick(7), no(api.ErrStuck)})
 	p.expect(t, d, 0, api.Instance{Id: 7, Mode: api.Forward, Stuck: true, Settled: 1, Keys: 2, Tries: 1, Ledger: []api.Entry{entry(1, 0, 1)}})
+	retry := api.Request{Number: 1, Inst: 7, What: api.Retry, Who: 1, Reason: "r", Until: 10, Closed: true}
+	p.add(line{api.Cmd{Kind: 5, Inst: 7, A: 1, Who: 1, Reason: "r"}, number(1)})
+	p.expectOne(t, d, 0, api.Instance{Id: 7, Mode: api.Forward, Settled: 1, Keys: 2, Ledger: []api.Entry{entry(1, 0, 1)}}, retry)
+	assume := api.Request{Number: 2, Inst: 7, What: api.Assume, Who: 1, Reason: "r", Until: 10, Closed: true}
+	p.add(line{api.Cmd{Kind: 5, Inst: 7, A: 4, Who: 1, Reason: "r"}, no(api.ErrState)}, line{api.Cmd{Kind: 5, Inst: 7, A: 2, Who: 1, Reason: "r"}, number(2)})
+	p.expectOne(t, d, 0, api.Instance{Id: 7, Mode: api.Done, Settled: 2, Keys: 2, Ledger: []api.Entry{entry(1, 0, 1), entry(2, 1, 2)}}, retry, assume)
+}
+
+func TestExample6(t *testing.T) {
+	d := two()
+	d.Quorum = 2
+	p := lines(line{start(7), ok}, line{ask(7, api.Abort, 0, 1), number(1)}, line{approve(1, 1), no(api.ErrWho)}, line{approve(1, 2), ok}, line{approve(1, 2), no(api.ErrWho)})
+	abort := api.Request{Number: 1, Inst: 7, What: api.Abort, Who: 1, Reason: "why", By: []int{2}, Until: 10}
+	p.expectOne(t, d, 0, fresh(7), abort)
+	p.add(line{approve(1, 3), ok}, line{approve(1, 4), no(api.ErrRequest)})
+	abort.By = []int{2, 3}
+	abort.Closed = true
+	p.expectOne(t, d, 0, api.Instance{Id: 7, Mode: api.Undone}, abort)
 }

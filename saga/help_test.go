@@ -27,7 +27,36 @@ func bad(id, key int) api.Cmd { return api.Cmd{Kind: api.Reply, Inst: id, A: key
 
 func tick(n int) api.Cmd { return api.Cmd{Kind: api.Tick, A: n} }
 
+func ask(id, what, target, who int) api.Cmd {
+	return api.Cmd{Kind: api.Ask, Inst: id, A: what, B: target, Who: who, Reason: "why"}
+}
+
+func approve(n, who int) api.Cmd { return api.Cmd{Kind: api.Approve, A: n, Who: who} }
+
+func withdraw(n, who int) api.Cmd { return api.Cmd{Kind: api.Withdraw, A: n, Who: who} }
+
+func dry(c api.Cmd) api.Cmd {
+	c.Dry = true
+	return c
+}
+
+// asked is what an ask by this number makes.
+func asked(n int, c api.Cmd, until int, by ...int) api.Request {
+	r := api.Request{Number: n, Inst: c.Inst, What: c.A, Who: c.Who, Reason: c.Reason, By: by, Until: until}
+	if c.A == api.Rewind {
+		r.Target = c.B
+	}
+	return r
+}
+
+func closed(r api.Request) api.Request {
+	r.Closed = true
+	return r
+}
+
 var ok = api.Answer{}
+
+func number(n int) api.Answer { return api.Answer{Number: n} }
 
 func no(e api.Errno) api.Answer { return api.Answer{Code: e} }
 
@@ -62,6 +91,21 @@ func lines(l ...line) play {
 	return p
 }
 
+// with is a play of its own that begins like p.
+func (p *play) with(l ...line) play {
+	q := lines(p.pairs()...)
+	q.add(l...)
+	return q
+}
+
+func (p *play) pairs() []line {
+	var l []line
+	for k := range p.cmds {
+		l = append(l, line{p.cmds[k], p.answers[k]})
+	}
+	return l
+}
+
 // wait ticks the clock on by n, however much that is.
 func (p *play) wait(n int) {
 	for n > 0 {
@@ -71,12 +115,23 @@ func (p *play) wait(n int) {
 	}
 }
 
-// expect runs the play, and compares the answers and the world behind it.
+// expect is for worlds without requests.
 func (p *play) expect(t *testing.T, d api.Def, clock int, instances ...api.Instance) {
+	t.Helper()
+	p.expectWorld(t, d, api.World{Clock: clock, Instances: instances})
+}
+
+// expectOne is for worlds with one instance.
+func (p *play) expectOne(t *testing.T, d api.Def, clock int, i api.Instance, requests ...api.Request) {
+	t.Helper()
+	p.expectWorld(t, d, api.World{Clock: clock, Instances: []api.Instance{i}, Requests: requests})
+}
+
+// expectWorld runs the play, and compares the answers and the world behind it.
+func (p *play) expectWorld(t *testing.T, d api.Def, want api.World) {
 	t.Helper()
 	p.expectAnswers(t, d)
 	w, e := saga.State(d, p.cmds)
-	want := api.World{Clock: clock, Instances: instances}
 	if e != api.OK || text(w) != text(want) {
 		t.Errorf("P5: State:\n%s, %d, want\n%s, 0", text(w), e, text(want))
 	}

@@ -80,7 +80,8 @@ func TestNothingHandedInIsWritten(t *testing.T) {
 	}
 }
 
-// busy is a script that makes four ledgers.
+// busy is a script that makes four ledgers, and eight requests with one to
+// three approvals.
 func busy() []api.Cmd {
 	s := []api.Cmd{start(0), start(1), start(2), start(3)}
 	for key := 1; key <= 5; key++ {
@@ -88,11 +89,23 @@ func busy() []api.Cmd {
 			s = append(s, pick(id), good(id, key))
 		}
 	}
-	return s
+	for n := 1; n <= 8; n++ {
+		s = append(s, ask(n%4, api.Assume, 0, 9), approve(n, 1))
+	}
+	for n := 1; n <= 6; n++ {
+		s = append(s, approve(n, 2))
+	}
+	return append(s, approve(1, 3), approve(2, 3))
+}
+
+func busyDef() api.Def {
+	d := steps(6, api.Step{Undo: true, Timeout: 5})
+	d.Quorum = 3
+	return d
 }
 
 func TestListsOfTheirOwn(t *testing.T) {
-	d := steps(6, api.Step{Undo: true, Timeout: 5})
+	d := busyDef()
 	d.Steps = roomy(d.Steps, api.Step{Retries: 77})
 	s := roomy(busy(), api.Cmd{Kind: 77})
 	handedIn := text(whole(d.Steps)) + text(whole(s))
@@ -105,6 +118,9 @@ func TestListsOfTheirOwn(t *testing.T) {
 	for k := range v.Instances {
 		fill(v.Instances[k].Ledger, api.Entry{Kind: 77})
 	}
+	for k := range v.Requests {
+		fill(v.Requests[k].By, 77)
+	}
 	fill(v.Instances, api.Instance{Id: 77})
 	fill(v.Requests, api.Request{Number: 77})
 	a2, _ := saga.Run(d, s)
@@ -114,17 +130,26 @@ func TestListsOfTheirOwn(t *testing.T) {
 	}
 }
 
-// The ledgers of one world do not share room, nor do they with its instances.
-func TestLedgersOfTheirOwn(t *testing.T) {
-	d := steps(6, api.Step{Undo: true, Timeout: 5})
-	for k := range 4 {
+// The lists inside one world share no room with each other.
+func TestLedgersAndApprovalsOfTheirOwn(t *testing.T) {
+	d := busyDef()
+	for k := range 4 + 8 {
 		w, _ := saga.State(d, busy())
 		want, _ := saga.State(d, busy())
-		fill(w.Instances[k].Ledger, api.Entry{Kind: 77})
-		want.Instances[k].Ledger = nil
-		w.Instances[k].Ledger = nil
+		if len(w.Instances) != 4 || len(w.Requests) != 8 {
+			t.Fatalf("P5: %+v", w)
+		}
+		if k < 4 {
+			fill(w.Instances[k].Ledger, api.Entry{Kind: 77})
+			w.Instances[k].Ledger = nil
+			want.Instances[k].Ledger = nil
+		} else {
+			fill(w.Requests[k-4].By, 77)
+			w.Requests[k-4].By = nil
+			want.Requests[k-4].By = nil
+		}
 		if text(w) != text(want) {
-			t.Errorf("P2: writing into ledger %d makes\n%+v, want\n%+v", k, w, want)
+			t.Errorf("P2: writing into list %d makes\n%+v, want\n%+v", k, w, want)
 		}
 	}
 }

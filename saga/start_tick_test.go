@@ -91,14 +91,6 @@ func TestUnnamedFields(t *testing.T) {
 	}
 }
 
-func (p *play) pairs() []line {
-	var l []line
-	for k := range p.cmds {
-		l = append(l, line{p.cmds[k], p.answers[k]})
-	}
-	return l
-}
-
 func strew(c *api.Cmd, n int) {
 	c.Who = n
 	c.Reason = "a reason that is longer than any may be"

@@ -21,13 +21,18 @@ func step(d api.Def, number int) api.Step {
 	return d.Steps[number]
 }
 
-func isPivotBehind(d api.Def, inst *api.Instance) bool {
+// floor is the lowest number of settled steps that there is a way back to.
+func floor(d api.Def, inst *api.Instance) int {
 	for k := 0; k < len(d.Steps) && k < inst.Settled; k++ {
 		if d.Steps[k].Pivot {
-			return true
+			return k + 1
 		}
 	}
-	return false
+	return 0
+}
+
+func isPivotBehind(d api.Def, inst *api.Instance) bool {
+	return floor(d, inst) > 0
 }
 
 func dropKey(inst *api.Instance) {
@@ -76,11 +81,15 @@ func arrive(inst *api.Instance) {
 	inst.Resume = false
 }
 
-func abort(clock int, inst *api.Instance) {
+func goBack(clock int, inst *api.Instance, target int, resume bool) {
 	beginAnew(clock, inst)
 	inst.Mode = api.Back
-	inst.Target = 0
-	inst.Resume = false
+	inst.Target = target
+	inst.Resume = resume
+}
+
+func abort(clock int, inst *api.Instance) {
+	goBack(clock, inst, 0, false)
 	if inst.Settled == 0 {
 		inst.Mode = api.Undone
 	}

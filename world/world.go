@@ -3,18 +3,18 @@ package world
 
 import "saga/api"
 
-// Do answers a command, and carries it out if the answer is OK. The
-// definition must have passed saga.Check.
+// Do answers a command, and carries it out if the answer is OK and the
+// command is not Dry. The definition must have passed saga.Check.
 func Do(d api.Def, w *api.World, c api.Cmd) api.Answer {
 	a := answer(d, w, c)
-	if a.Code == api.OK {
+	if a.Code == api.OK && !c.Dry {
 		carryOut(d, w, c)
 	}
 	return a
 }
 
-// answer changes nothing, so that a command that is refused can leave no
-// trace.
+// answer changes nothing, so that a command that is refused or Dry can leave
+// no trace.
 func answer(d api.Def, w *api.World, c api.Cmd) api.Answer {
 	switch c.Kind {
 	case api.Start:
@@ -25,6 +25,12 @@ func answer(d api.Def, w *api.World, c api.Cmd) api.Answer {
 		return api.Answer{Code: replyCode(w, c.Inst, c.A)}
 	case api.Tick:
 		return api.Answer{Code: tickCode(w, c.A)}
+	case api.Ask:
+		return askAnswer(d, w, c)
+	case api.Approve:
+		return api.Answer{Code: approveCode(d, w, c.A, c.Who)}
+	case api.Withdraw:
+		return api.Answer{Code: withdrawCode(w, c.A, c.Who)}
 	}
 	return api.Answer{Code: api.ErrKind}
 }
@@ -40,6 +46,12 @@ func carryOut(d api.Def, w *api.World, c api.Cmd) {
 		reply(d, w, c.Inst, c.B == 1)
 	case api.Tick:
 		w.Clock += c.A
+	case api.Ask:
+		ask(d, w, c)
+	case api.Approve:
+		approve(d, w, c.A, c.Who)
+	case api.Withdraw:
+		withdraw(w, c.A)
 	}
 }
 
