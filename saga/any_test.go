@@ -86,11 +86,16 @@ func TestAnyNumbers(t *testing.T) {
 		e := saga.Check(d)
 		a, f := saga.Run(d, s)
 		w, g := saga.State(d, s)
-		if f != e || g != e {
-			t.Fatalf("P4, P5: %+v: Check %d, Run %d, State %d", d, e, f, g)
+		j, safe, h := saga.Journal(d, s)
+		v, read, i := saga.Recover(d, j+"\x05")
+		if f != e || g != e || h != e || i != e {
+			t.Fatalf("P4 to P7: %+v: Check %d, Run %d, State %d, Journal %d, Recover %d", d, e, f, g, h, i)
 		}
-		if e != api.OK && (len(a) != 0 || text(w) != text(api.World{})) {
-			t.Fatalf("P1: %+v: %d: %v, %+v", d, e, a, w)
+		if e != api.OK && (len(a) != 0 || text(w) != text(api.World{}) || j != "" || safe != 0 || text(v) != text(w) || read != 0) {
+			t.Fatalf("P1: %+v: %d: %v, %+v, %q, %d, %+v, %d", d, e, a, w, j, safe, v, read)
+		}
+		if text(v) != text(w) || read != len(j) || safe < 0 || safe > len(j) {
+			t.Fatalf("P7: %+v, %+v: %d of %d read, %d safe:\n%+v, want\n%+v", d, s, read, len(j), safe, v, w)
 		}
 		if e == api.OK && len(a) != len(s) {
 			t.Fatalf("P4: %d answers to %d commands", len(a), len(s))
@@ -116,6 +121,9 @@ func TestEveryWorld(t *testing.T) {
 	for range 150 {
 		d := likelyDef(r)
 		s := likelyScript(r, 120)
+		if r.Intn(2) == 0 {
+			s = crashing(r, d, 120)
+		}
 		answers, _ := saga.Run(d, s)
 		before := api.World{}
 		for k := range s {

@@ -8,7 +8,7 @@ import (
 	"saga/saga"
 )
 
-// expectDef tries every call of P3 to P5 with a definition.
+// expectDef tries every call with a definition.
 func expectDef(t *testing.T, what string, d api.Def, want api.Errno) {
 	t.Helper()
 	if e := saga.Check(d); e != want {
@@ -23,8 +23,20 @@ func expectDef(t *testing.T, what string, d api.Def, want api.Errno) {
 	if f != want {
 		t.Errorf("P5: %s: State: %d, want %d", what, f, want)
 	}
+	j, n, g := saga.Journal(d, script)
+	if g != want {
+		t.Errorf("P6: %s: Journal: %d, want %d", what, g, want)
+	}
+	disk := record("\x01\x01\x00\x00\x00") + record("\x04\x00\x03\x00\x00")
+	v, m, h := saga.Recover(d, disk)
+	if h != want {
+		t.Errorf("P7: %s: Recover: %d, want %d", what, h, want)
+	}
 	if want == api.OK {
 		return
+	}
+	if j != "" || n != 0 || m != 0 || v.Clock != 0 || len(v.Instances) != 0 || len(v.Requests) != 0 {
+		t.Errorf("P1: %s: with an error: %q, %d, %+v, %d", what, j, n, v, m)
 	}
 	if len(answers) != 0 || w.Clock != 0 || len(w.Instances) != 0 || len(w.Requests) != 0 {
 		t.Errorf("P1: %s: with an error: %v, %+v", what, answers, w)

@@ -57,3 +57,32 @@ func TestExample6(t *testing.T) {
 	abort.Closed = true
 	p.expectOne(t, d, 0, api.Instance{Id: 7, Mode: api.Undone}, abort)
 }
+
+func TestExample7(t *testing.T) {
+	expectJournal(t, two(), []api.Cmd{start(7)}, "\x05\x01\x07\x00\x00\x00\x32\x00", 0)
+	expectJournal(t, two(), []api.Cmd{tick(3)}, "\x05\x04\x00\x03\x00\x00\x30\x00", 0)
+}
+
+func TestExample8(t *testing.T) {
+	p := lines(line{start(7), ok}, line{sync(), ok}, line{tick(3), ok})
+	half := p.with(line{crash(4), ok})
+	half.expect(t, two(), 0, fresh(7))
+	expectJournal(t, two(), half.cmds, "\x05\x01\x07\x00\x00\x00\x32\x00", 8)
+	whole := p.with(line{crash(8), ok})
+	whole.expect(t, two(), 3, fresh(7))
+	expectJournal(t, two(), whole.cmds, "\x05\x01\x07\x00\x00\x00\x32\x00\x05\x04\x00\x03\x00\x00\x30\x00", 16)
+}
+
+func TestExample9(t *testing.T) {
+	p := lines(line{start(7), ok}, line{tick(3), ok}, line{pick(7), do(1, 0)}, line{crash(0), ok})
+	p.expect(t, two(), 3, api.Instance{Id: 7, Mode: api.Forward, Keys: 1, Key: 1, Due: 8, Tries: 1})
+	p = lines(line{start(7), ok}, line{tick(3), ok}, line{crash(0), ok})
+	p.expect(t, two(), 0)
+}
+
+func TestExample10(t *testing.T) {
+	one, three := "\x05\x01\x07\x00\x00\x00\x32\x00", "\x05\x04\x00\x03\x00\x00\x30\x00"
+	expectRecover(t, two(), one+three+"\x00", api.World{Clock: 3, Instances: []api.Instance{fresh(7)}}, 16)
+	expectRecover(t, two(), one+one, api.World{Instances: []api.Instance{fresh(7)}}, 8)
+	expectRecover(t, two(), "\x05\x01\x07\x01\x00\x00\x35\x00", api.World{}, 0)
+}

@@ -35,6 +35,10 @@ func approve(n, who int) api.Cmd { return api.Cmd{Kind: api.Approve, A: n, Who: 
 
 func withdraw(n, who int) api.Cmd { return api.Cmd{Kind: api.Withdraw, A: n, Who: who} }
 
+func sync() api.Cmd { return api.Cmd{Kind: api.Sync} }
+
+func crash(n int) api.Cmd { return api.Cmd{Kind: api.Crash, A: n} }
+
 func dry(c api.Cmd) api.Cmd {
 	c.Dry = true
 	return c
@@ -127,7 +131,8 @@ func (p *play) expectOne(t *testing.T, d api.Def, clock int, i api.Instance, req
 	p.expectWorld(t, d, api.World{Clock: clock, Instances: []api.Instance{i}, Requests: requests})
 }
 
-// expectWorld runs the play, and compares the answers and the world behind it.
+// expectWorld runs the play, and compares the answers, the world behind it,
+// the journal, and what is read from that.
 func (p *play) expectWorld(t *testing.T, d api.Def, want api.World) {
 	t.Helper()
 	p.expectAnswers(t, d)
@@ -135,6 +140,9 @@ func (p *play) expectWorld(t *testing.T, d api.Def, want api.World) {
 	if e != api.OK || text(w) != text(want) {
 		t.Errorf("P5: State:\n%s, %d, want\n%s, 0", text(w), e, text(want))
 	}
+	k := p.disk()
+	expectJournal(t, d, p.cmds, k.bytes, k.safe)
+	expectRecover(t, d, k.bytes, want, len(k.bytes))
 }
 
 func (p *play) expectAnswers(t *testing.T, d api.Def) {

@@ -25,21 +25,25 @@ func fill[T any](l []T, x T) {
 	}
 }
 
+// all is what all the calls answer.
+func all(d api.Def, s []api.Cmd) string {
+	a, e := saga.Run(d, s)
+	w, f := saga.State(d, s)
+	j, n, g := saga.Journal(d, s)
+	v, m, h := saga.Recover(d, j+j)
+	return text(saga.Check(d)) + text(a) + text(e) + text(w) + text(f) + j + text(n) + text(g) + text(v) + text(m) + text(h)
+}
+
 // Equal arguments are answered alike, whatever was called between.
 func TestSameAgain(t *testing.T) {
 	r := rand.New(rand.NewSource(4))
 	for range 100 {
 		d, other := likelyDef(r), likelyDef(r)
-		s, others := likelyScript(r, 60), likelyScript(r, 60)
-		a, e := saga.Run(d, s)
-		w, f := saga.State(d, s)
-		first := text(a) + text(w) + text(e) + text(f)
-		saga.Run(other, others)
-		saga.State(other, others)
-		saga.Check(api.Def{})
-		a, e = saga.Run(d, slices.Clone(s))
-		w, f = saga.State(d, slices.Clone(s))
-		if again := text(a) + text(w) + text(e) + text(f); again != first {
+		s, others := crashing(r, d, 60), crashing(r, other, 60)
+		first := all(d, s)
+		all(other, others)
+		all(api.Def{}, s)
+		if again := all(d, slices.Clone(s)); again != first {
 			t.Fatalf("P2:\n%s, and then\n%s", first, again)
 		}
 	}
@@ -49,12 +53,12 @@ func TestSameAgain(t *testing.T) {
 func TestAnswersOfBeginnings(t *testing.T) {
 	r := rand.New(rand.NewSource(5))
 	d := likelyDef(r)
-	s := likelyScript(r, 100)
-	all, _ := saga.Run(d, s)
+	s := crashing(r, d, 100)
+	whole, _ := saga.Run(d, s)
 	for k := range s {
 		a, _ := saga.Run(d, s[:k])
-		if !slices.Equal(a, all[:k]) {
-			t.Fatalf("P2, P4: %v, want %v", a, all[:k])
+		if !slices.Equal(a, whole[:k]) {
+			t.Fatalf("P2, P4: %v, want %v", a, whole[:k])
 		}
 	}
 }
@@ -64,16 +68,12 @@ func TestNothingHandedInIsWritten(t *testing.T) {
 	for range 100 {
 		d := likelyDef(r)
 		d.Steps = roomy(d.Steps, api.Step{Retries: 77})
-		s := roomy(likelyScript(r, 60), api.Cmd{Kind: 77})
+		s := roomy(crashing(r, d, 60), api.Cmd{Kind: 77})
 		before := text(whole(d.Steps)) + text(whole(s))
-		saga.Check(d)
-		saga.Run(d, s)
-		saga.State(d, s)
+		all(d, s)
 		bad := d
 		bad.Expiry = 0
-		saga.Check(bad)
-		saga.Run(bad, s)
-		saga.State(bad, s)
+		all(bad, s)
 		if after := text(whole(d.Steps)) + text(whole(s)); after != before {
 			t.Fatalf("P2: handed in\n%s, and then it was\n%s", before, after)
 		}
@@ -104,6 +104,28 @@ func busyDef() api.Def {
 	return d
 }
 
+// busyWorlds is the world of busy, each time as it comes out of another call.
+func busyWorlds(d api.Def, s []api.Cmd) []api.World {
+	plain, _ := saga.State(d, s)
+	crashed, _ := saga.State(d, append(slices.Clone(s), crash(1<<40)))
+	part := slices.Concat(s[:30], []api.Cmd{crash(1 << 40), crash(0)}, s[30:])
+	goneOn, _ := saga.State(d, part)
+	j, _, _ := saga.Journal(d, s)
+	read, _, _ := saga.Recover(d, j)
+	return []api.World{plain, crashed, goneOn, read}
+}
+
+func fillWorld(w api.World) {
+	for k := range w.Instances {
+		fill(w.Instances[k].Ledger, api.Entry{Kind: 77})
+	}
+	for k := range w.Requests {
+		fill(w.Requests[k].By, 77)
+	}
+	fill(w.Instances, api.Instance{Id: 77})
+	fill(w.Requests, api.Request{Number: 77})
+}
+
 func TestListsOfTheirOwn(t *testing.T) {
 	d := busyDef()
 	d.Steps = roomy(d.Steps, api.Step{Retries: 77})
@@ -111,21 +133,19 @@ func TestListsOfTheirOwn(t *testing.T) {
 	handedIn := text(whole(d.Steps)) + text(whole(s))
 	a, _ := saga.Run(d, s)
 	b, _ := saga.Run(d, s)
-	v, _ := saga.State(d, s)
-	w, _ := saga.State(d, s)
-	answers, world := text(a), text(w)
+	worlds, others := busyWorlds(d, s), busyWorlds(d, s)
+	answers, world := text(a), text(worlds[0])
 	fill(b, api.Answer{Number: 77})
-	for k := range v.Instances {
-		fill(v.Instances[k].Ledger, api.Entry{Kind: 77})
+	for _, w := range others {
+		fillWorld(w)
 	}
-	for k := range v.Requests {
-		fill(v.Requests[k].By, 77)
-	}
-	fill(v.Instances, api.Instance{Id: 77})
-	fill(v.Requests, api.Request{Number: 77})
 	a2, _ := saga.Run(d, s)
-	w2, _ := saga.State(d, s)
-	if text(a) != answers || text(a2) != answers || text(w) != world || text(w2) != world || text(whole(d.Steps))+text(whole(s)) != handedIn {
+	for _, w := range slices.Concat(worlds, busyWorlds(d, s)) {
+		if text(w) != world {
+			t.Errorf("P2: writing into what came out shows in\n%+v, want\n%s", w, world)
+		}
+	}
+	if text(a) != answers || text(a2) != answers || text(whole(d.Steps))+text(whole(s)) != handedIn {
 		t.Errorf("P2: writing into what came out shows elsewhere")
 	}
 }
@@ -134,22 +154,23 @@ func TestListsOfTheirOwn(t *testing.T) {
 func TestLedgersAndApprovalsOfTheirOwn(t *testing.T) {
 	d := busyDef()
 	for k := range 4 + 8 {
-		w, _ := saga.State(d, busy())
-		want, _ := saga.State(d, busy())
-		if len(w.Instances) != 4 || len(w.Requests) != 8 {
-			t.Fatalf("P5: %+v", w)
-		}
-		if k < 4 {
-			fill(w.Instances[k].Ledger, api.Entry{Kind: 77})
-			w.Instances[k].Ledger = nil
-			want.Instances[k].Ledger = nil
-		} else {
-			fill(w.Requests[k-4].By, 77)
-			w.Requests[k-4].By = nil
-			want.Requests[k-4].By = nil
-		}
-		if text(w) != text(want) {
-			t.Errorf("P2: writing into list %d makes\n%+v, want\n%+v", k, w, want)
+		for n, w := range busyWorlds(d, busy()) {
+			want := busyWorlds(d, busy())[n]
+			if len(w.Instances) != 4 || len(w.Requests) != 8 {
+				t.Fatalf("P5: %+v", w)
+			}
+			if k < 4 {
+				fill(w.Instances[k].Ledger, api.Entry{Kind: 77})
+				w.Instances[k].Ledger = nil
+				want.Instances[k].Ledger = nil
+			} else {
+				fill(w.Requests[k-4].By, 77)
+				w.Requests[k-4].By = nil
+				want.Requests[k-4].By = nil
+			}
+			if text(w) != text(want) {
+				t.Errorf("P2: writing into list %d of world %d makes\n%+v, want\n%+v", k, n, w, want)
+			}
 		}
 	}
 }

@@ -3,7 +3,8 @@ package saga
 
 import (
 	"saga/api"
-	"saga/world"
+	"saga/journal"
+	"saga/machine"
 )
 
 // Check tells whether a definition is one (P3).
@@ -20,10 +21,10 @@ func Run(d api.Def, script []api.Cmd) ([]api.Answer, api.Errno) {
 	if code != api.OK {
 		return nil, code
 	}
-	var w api.World
+	var m machine.Machine
 	var answers []api.Answer
 	for k := 0; k < len(script); k++ {
-		a := world.Do(d, &w, script[k])
+		a := m.Do(d, script[k])
 		answers = append(answers, a)
 	}
 	return answers, api.OK
@@ -31,19 +32,40 @@ func Run(d api.Def, script []api.Cmd) ([]api.Answer, api.Errno) {
 
 // State tells the world behind a script (P5).
 func State(d api.Def, script []api.Cmd) (api.World, api.Errno) {
-	var w api.World
 	code := Check(d)
 	if code != api.OK {
-		return w, code
+		return api.World{}, code
 	}
-	for k := 0; k < len(script); k++ {
-		world.Do(d, &w, script[k])
-	}
-	return w, api.OK
+	m := behind(d, script)
+	return m.World, api.OK
 }
 
 // Journal tells the journal behind a script, and how much of it is safe (P6).
-func Journal(d api.Def, script []api.Cmd) (string, int, api.Errno) { return "", 0, api.OK }
+func Journal(d api.Def, script []api.Cmd) (string, int, api.Errno) {
+	code := Check(d)
+	if code != api.OK {
+		return "", 0, code
+	}
+	m := behind(d, script)
+	return string(m.Journal), m.Safe, api.OK
+}
 
 // Recover reads a journal (P7).
-func Recover(d api.Def, disk string) (api.World, int, api.Errno) { return api.World{}, 0, api.OK }
+func Recover(d api.Def, disk string) (api.World, int, api.Errno) {
+	code := Check(d)
+	if code != api.OK {
+		return api.World{}, 0, code
+	}
+	var w api.World
+	read := journal.Read(d, &w, disk)
+	return w, read, api.OK
+}
+
+// behind is the machine behind a script.
+func behind(d api.Def, script []api.Cmd) machine.Machine {
+	var m machine.Machine
+	for k := 0; k < len(script); k++ {
+		m.Do(d, script[k])
+	}
+	return m
+}
